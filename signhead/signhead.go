@@ -1,4 +1,4 @@
-// Package signhead is what heads of several formats have in common: they begin with a sign, behind which the sides stand; see shared/doc/26-qoi.md and shared/doc/27-ff.md.
+// Package signhead is what heads of several formats have in common: they begin with a sign, behind which the sides stand; see shared/doc/26-qoi.md, shared/doc/27-ff.md and shared/doc/29-sun.md.
 package signhead
 
 import (
@@ -43,7 +43,7 @@ func wrong(b, sign string) (kind, at int) {
 // sides are those that a head's bytes tell, whatever they are.
 func sides(b, sign string) (width, height int) {
 	b = b[len(sign):]
-	return number(b), number(b[numberBytes:])
+	return Number(b), Number(b[numberBytes:])
 }
 
 // side is the kind of what is wrong with one.
@@ -57,8 +57,8 @@ func side(n int) int {
 	return api.NoFault
 }
 
-// number is the one that bytes begin with.
-func number(b string) int {
+// Number is the one that bytes begin with.
+func Number(b string) int {
 	v := 0
 	for i := range numberBytes {
 		v = v<<8 | int(b[i])
@@ -66,10 +66,10 @@ func number(b string) int {
 	return v
 }
 
-// Bytes is what a head with such sides begins with.
-func Bytes(sign string, width, height int) string {
+// Bytes is what a head begins with: a sign, and behind it such numbers, of which the sides are the first.
+func Bytes(sign string, l ...int) string {
 	b := []byte(sign)
-	for _, v := range [...]int{width, height} {
+	for _, v := range l {
 		b = append(b, byte(v>>24), byte(v>>16), byte(v>>8), byte(v))
 	}
 	return string(b)

@@ -64,7 +64,7 @@ func TestWrong(t *testing.T) {
 	}
 }
 
-// P26.1, P27.1: the sides stand behind the sign, the highest byte first.
+// P26.1, P27.1, P29.1: the sides stand behind the sign, the highest byte first, and other numbers behind them.
 func TestBytes(t *testing.T) {
 	for _, x := range []struct {
 		width, height int
@@ -76,6 +76,18 @@ func TestBytes(t *testing.T) {
 	} {
 		if got := Bytes("sign", x.width, x.height); got != x.want {
 			t.Errorf("%d by %d: %q", x.width, x.height, got)
+		}
+	}
+	if got := Bytes("sign", 1, 2, 3, 0xfefdfcfb); got != "sign\x00\x00\x00\x01\x00\x00\x00\x02\x00\x00\x00\x03\xfe\xfd\xfc\xfb" {
+		t.Errorf("%q", got)
+	}
+}
+
+// P29.1: a number is that of the first four bytes.
+func TestNumber(t *testing.T) {
+	for s, want := range map[string]int{"\x00\x00\x00\x00": 0, "\x01\x02\x03\x04\x05": 0x01020304, "\xff\xff\xff\xff": 1<<32 - 1, "\x80\x00\x00\x01\xff": 1<<31 + 1} {
+		if got := Number(s); got != want {
+			t.Errorf("%q: %d", s, got)
 		}
 	}
 }
